@@ -97,11 +97,11 @@ func mulLimbs(a, b []uint16) []uint16 {
 	}
 	out := make([]uint16, len(a)+len(b))
 	for i, x := range a {
-		carry := uint32(0)
+		carry, part := uint32(0), out[i:][:len(b)]
 		for j, y := range b {
 			// the greatest product and two more limbs still fit
-			carry += uint32(x)*uint32(y) + uint32(out[i+j])
-			out[i+j] = uint16(carry)
+			carry += uint32(x)*uint32(y) + uint32(part[j])
+			part[j] = uint16(carry)
 			carry >>= 16
 		}
 		out[i+len(b)] = uint16(carry)
@@ -195,11 +195,11 @@ func digit(u, v []uint16) uint16 {
 
 // takeProduct subtracts v times by from u and reports whether that was too much.
 func takeProduct(u, v []uint16, by uint32) bool {
-	carry, borrow := uint32(0), uint32(0)
+	carry, borrow, part := uint32(0), uint32(0), u[:len(v)]
 	for i, y := range v {
 		carry += by * uint32(y)
-		d := uint32(u[i]) - carry&65535 - borrow
-		u[i] = uint16(d)
+		d := uint32(part[i]) - carry&65535 - borrow
+		part[i] = uint16(d)
 		borrow = d >> 31
 		carry >>= 16
 	}
