@@ -4,6 +4,7 @@ import (
 	"slices"
 
 	"keelblock/api"
+	"keelblock/common"
 )
 
 // Loads returns the total of a ship and all its loads.
@@ -74,7 +75,7 @@ func total(s api.Ship) api.Centre {
 		along += l.Mass * l.X
 		up += l.Mass * l.Z
 	}
-	c.X, c.Z = ratio(along, c.Mass), ratio(up, c.Mass)
+	c.X, c.Z = common.Ratio(along, c.Mass), common.Ratio(up, c.Mass)
 	return c
 }
 

@@ -4,12 +4,13 @@ import (
 	"slices"
 
 	"keelblock/api"
+	"keelblock/common"
 	"keelblock/exact"
 )
 
 // Strength returns the shear forces and the bending moments along a ship.
 func Strength(s api.Ship, a api.Attitude, density int) ([]api.Force, api.Errno) {
-	if e := firstError(Check(s), densityError(density)); e != api.OK {
+	if e := common.FirstError(Check(s), densityError(density)); e != api.OK {
 		return nil, e
 	}
 	lifts := liftsOf(s, a, density)
@@ -23,7 +24,7 @@ func Strength(s api.Ship, a api.Attitude, density int) ([]api.Force, api.Errno) 
 	var shear, moment api.Rat
 	before := places[0]
 	for _, x := range places {
-		moment = exact.AddRat(moment, times(shear, x-before))
+		moment = exact.AddRat(moment, common.Times(shear, x-before))
 		shear = exact.AddRat(shear, lifts[x])
 		out = append(out, api.Force{X: x, Shear: shear, Moment: moment})
 		before = x
@@ -38,7 +39,7 @@ func liftsOf(s api.Ship, a api.Attitude, density int) map[int]api.Rat {
 		lifts[t.X] = displacement(t, Immersion(a, t.X), density)
 	}
 	for _, l := range allLoads(s) {
-		lifts[l.X] = exact.SubRat(lifts[l.X], whole(l.Mass))
+		lifts[l.X] = exact.SubRat(lifts[l.X], common.Whole(l.Mass))
 	}
 	return lifts
 }

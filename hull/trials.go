@@ -2,6 +2,7 @@ package hull
 
 import (
 	"keelblock/api"
+	"keelblock/common"
 	"keelblock/exact"
 )
 
@@ -19,15 +20,15 @@ func Stability(s api.Ship, a api.Attitude, w api.Raised) (api.Stable, api.Errno)
 		return api.Stable{}, e
 	}
 	c := total(s)
-	mass := whole(c.Mass)
+	mass := common.Whole(c.Mass)
 	left := exact.SubRat(mass, w.Upthrust)
-	if sign(w.Upthrust) < 0 || sign(left) <= 0 {
+	if common.Sign(w.Upthrust) < 0 || common.Sign(left) <= 0 {
 		return api.Stable{}, api.ErrLimit
 	}
 	moment := exact.MulRat(left, h.Meta)
 	moment = exact.SubRat(moment, exact.MulRat(mass, c.Z))
-	moment = exact.SubRat(moment, whole(metre*c.Free))
-	return api.Stable{KM: h.Meta, KG: c.Z, GM: over(moment, mass), Other: over(moment, left)}, api.OK
+	moment = exact.SubRat(moment, common.Whole(metre*c.Free))
+	return api.Stable{KM: h.Meta, KG: c.Z, GM: common.Over(moment, mass), Other: common.Over(moment, left)}, api.OK
 }
 
 // Experiment returns the result of an inclining experiment.
@@ -47,21 +48,21 @@ func Experiment(t api.Incline) (api.Stable, api.Errno) {
 	if squares == 0 {
 		return api.Stable{}, api.ErrZero
 	}
-	gm := over(times(moment, t.Pendulum), times(h.Displacement, squares))
-	free := over(whole(metre*total(t.Ship).Free), h.Displacement)
+	gm := common.Over(common.Times(moment, t.Pendulum), common.Times(h.Displacement, squares))
+	free := common.Over(common.Whole(metre*total(t.Ship).Free), h.Displacement)
 	other := exact.AddRat(gm, free)
 	return api.Stable{KM: h.Meta, KG: exact.SubRat(h.Meta, other), GM: gm, Other: other}, api.OK
 }
 
 func shiftsError(t api.Incline) api.Errno {
-	if !within(t.Pendulum, 1, longest) {
+	if !common.Within(t.Pendulum, 1, longest) {
 		return api.ErrRange
 	}
 	if len(t.Shifts) > mostShifts {
 		return api.ErrLarge
 	}
 	for _, x := range t.Shifts {
-		if !within(x.Mass, 0, mostShifted) || !within(x.Distance, -longest, longest) || !within(x.Deflection, -longest, longest) {
+		if !common.Within(x.Mass, 0, mostShifted) || !common.Within(x.Distance, -longest, longest) || !common.Within(x.Deflection, -longest, longest) {
 			return api.ErrRange
 		}
 	}
@@ -74,16 +75,16 @@ func Survey(m api.Marks) (api.Attitude, api.Rat, api.Errno) {
 		return api.Attitude{}, api.Rat{}, e
 	}
 	aft, middle, fore := mean(m, 0), mean(m, 1), mean(m, 2)
-	slope := over(exact.SubRat(fore, aft), whole(m.X[2]-m.X[0]))
-	line := api.Attitude{Sink: exact.SubRat(aft, times(slope, m.X[0])), Slope: slope}
+	slope := common.Over(exact.SubRat(fore, aft), common.Whole(m.X[2]-m.X[0]))
+	line := api.Attitude{Sink: exact.SubRat(aft, common.Times(slope, m.X[0])), Slope: slope}
 	bend := exact.SubRat(middle, Immersion(line, m.X[1]))
-	line.Sink = exact.AddRat(line.Sink, exact.MulRat(bend, ratio(3, 4)))
+	line.Sink = exact.AddRat(line.Sink, exact.MulRat(bend, common.Ratio(3, 4)))
 	return line, bend, api.OK
 }
 
 func marksError(m api.Marks) api.Errno {
 	for i := range m.X {
-		if !isPlace(m.X[i]) || !isPlace(m.Port[i]) || !isPlace(m.Starboard[i]) {
+		if !common.IsPlace(m.X[i]) || !common.IsPlace(m.Port[i]) || !common.IsPlace(m.Starboard[i]) {
 			return api.ErrRange
 		}
 	}
@@ -94,13 +95,13 @@ func marksError(m api.Marks) api.Errno {
 }
 
 // mean returns the mean reading of both sides.
-func mean(m api.Marks, i int) api.Rat { return ratio(m.Port[i]+m.Starboard[i], 2) }
+func mean(m api.Marks, i int) api.Rat { return common.Ratio(m.Port[i]+m.Starboard[i], 2) }
 
 // Draughts returns the heights of the water aft, amidships and forward.
 func Draughts(s api.Ship, a api.Attitude) ([3]api.Rat, api.Errno) {
 	if e := Check(s); e != api.OK {
 		return [3]api.Rat{}, e
 	}
-	middle := heightAt(a, ratio(s.Length, 2))
+	middle := heightAt(a, common.Ratio(s.Length, 2))
 	return [3]api.Rat{Immersion(a, 0), middle, Immersion(a, s.Length)}, api.OK
 }
