@@ -41,5 +41,17 @@ func Ratio(a, b int) api.Rat {
 	return q
 }
 
+// Normal returns the same number, normalized and in new memory.
+func Normal(x api.Rat) api.Rat { return exact.AddRat(x, api.Rat{}) }
+
+// Sum returns the sum of all numbers.
+func Sum(l []api.Rat) api.Rat {
+	total := Whole(0)
+	for _, x := range l {
+		total = exact.AddRat(total, x)
+	}
+	return total
+}
+
 // Sign returns -1, 0 or 1.
 func Sign(x api.Rat) int { return exact.CmpRat(x, api.Rat{}) }

@@ -1,6 +1,7 @@
 package common_test
 
 import (
+	"reflect"
 	"testing"
 
 	"keelblock/api"
@@ -54,7 +55,40 @@ func TestNumbers(t *testing.T) {
 			t.Errorf("%s, want %s", text, x.wanted)
 		}
 	}
+	odd := api.Rat{Num: api.Int{Neg: true, Limbs: []uint16{6, 0}}, Den: api.Int{Limbs: []uint16{4, 0, 0}}}
+	for _, x := range []struct {
+		got    api.Rat
+		wanted string
+	}{
+		{common.Normal(odd), "-3/2"}, {common.Normal(api.Rat{}), "0"}, {common.Sum(nil), "0"}, {common.Sum([]api.Rat{odd, half, {}, common.Whole(5)}), "3"},
+	} {
+		text := exact.FormatRat(x.got)
+		normal, _ := exact.ParseRat(text)
+		if text != x.wanted || !reflect.DeepEqual(x.got, normal) {
+			t.Errorf("%v, want %s", x.got, x.wanted)
+		}
+	}
 	if common.Sign(half) != -1 || common.Sign(api.Rat{}) != 0 || common.Sign(common.Whole(5)) != 1 {
 		t.Error("a wrong sign")
+	}
+}
+
+func TestCopyShip(t *testing.T) {
+	ship := func() api.Ship {
+		return api.Ship{
+			Name:     "S",
+			Stations: []api.Station{{X: 1, Levels: []int{2, 3}, Halves: []int{4}}, {X: 5, Levels: []int{6, 7}, Halves: []int{8}}},
+			Items:    []api.Load{{Name: "Oil"}},
+		}
+	}
+	s := ship()
+	out := common.CopyShip(s)
+	if !reflect.DeepEqual(out, s) {
+		t.Errorf("%v is copied as %v", s, out)
+	}
+	out.Stations[0].X, out.Stations[0].Levels[0], out.Stations[1].Halves[0] = 9, 9, 9
+	out.Items[0].Name = "Other"
+	if !reflect.DeepEqual(s, ship()) {
+		t.Errorf("a change of the copy makes %v of the ship", s)
 	}
 }

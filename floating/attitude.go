@@ -38,7 +38,7 @@ func Total(l []api.Support, a api.Attitude) (api.Resultant, api.Errno) {
 	if e != api.OK {
 		return api.Resultant{}, e
 	}
-	return api.Resultant{Force: sum(forces), Moment: sum(moments(l, forces))}, api.OK
+	return api.Resultant{Force: common.Sum(forces), Moment: common.Sum(moments(l, forces))}, api.OK
 }
 
 // Capacity returns the most that the supports can carry together, if there is such a limit.
@@ -57,7 +57,7 @@ func Energy(b api.Body, a api.Attitude) (api.Rat, api.Errno) {
 	}
 	stored, _ := answers(b.Supports, energyAt(a))
 	sunk := exact.AddRat(a.Sink, exact.MulRat(a.Slope, b.At))
-	return exact.SubRat(sum(stored), common.Times(sunk, b.Weight)), api.OK
+	return exact.SubRat(common.Sum(stored), common.Times(sunk, b.Weight)), api.OK
 }
 
 // Stiff returns the stiffness at an attitude.
@@ -67,7 +67,7 @@ func Stiff(l []api.Support, a api.Attitude) (api.Stiffness, api.Errno) {
 		return api.Stiffness{}, e
 	}
 	first := moments(l, slopes)
-	return api.Stiffness{Heave: sum(slopes), Cross: sum(first), Pitch: sum(moments(l, first))}, api.OK
+	return api.Stiffness{Heave: common.Sum(slopes), Cross: common.Sum(first), Pitch: common.Sum(moments(l, first))}, api.OK
 }
 
 // Centre returns the place at which a small load does not change the trim.
@@ -121,12 +121,4 @@ func moments(l []api.Support, numbers []api.Rat) []api.Rat {
 		out = append(out, common.Times(x, l[i].X))
 	}
 	return out
-}
-
-func sum(l []api.Rat) api.Rat {
-	total := common.Whole(0)
-	for _, x := range l {
-		total = exact.AddRat(total, x)
-	}
-	return total
 }

@@ -144,7 +144,7 @@ func multiple(a api.Int, x api.Rat) api.Int {
 	if _, rest, _ := exact.DivMod(a, x.Den); isZero(rest) {
 		return a
 	}
-	return exact.Mul(a, quotient(normal(x).Den, a).Num)
+	return exact.Mul(a, quotient(common.Normal(x).Den, a).Num)
 }
 
 // parts returns x * unit, which is an integer.

@@ -80,16 +80,13 @@ func checked(b api.Body) (api.Body, api.Errno) {
 
 // duplicate returns the same body in new memory, with normalized numbers.
 func duplicate(b api.Body) api.Body {
-	out := api.Body{Weight: b.Weight, At: normal(b.At)}
+	out := api.Body{Weight: b.Weight, At: common.Normal(b.At)}
 	for _, s := range b.Supports {
 		c := api.Curve{Starts: slices.Clone(s.Curve.Starts)}
 		for _, k := range s.Curve.Slopes {
-			c.Slopes = append(c.Slopes, normal(k))
+			c.Slopes = append(c.Slopes, common.Normal(k))
 		}
-		out.Supports = append(out.Supports, api.Support{X: s.X, C: normal(s.C), Curve: c})
+		out.Supports = append(out.Supports, api.Support{X: s.X, C: common.Normal(s.C), Curve: c})
 	}
 	return out
 }
-
-// normal returns the same number, normalized and in new memory.
-func normal(x api.Rat) api.Rat { return exact.AddRat(x, api.Rat{}) }

@@ -44,8 +44,8 @@ func CheckSolution(b api.Body, s api.Solution) api.Errno {
 		}
 	}
 	weight := common.Whole(b.Weight)
-	balanced := exact.CmpRat(sum(forces), weight) == 0 &&
-		exact.CmpRat(sum(moments(b.Supports, forces)), exact.MulRat(weight, b.At)) == 0
+	balanced := exact.CmpRat(common.Sum(forces), weight) == 0 &&
+		exact.CmpRat(common.Sum(moments(b.Supports, forces)), exact.MulRat(weight, b.At)) == 0
 	if !balanced {
 		return api.ErrProof
 	}

@@ -20,7 +20,7 @@ func With(s api.Ship, l api.Load) (api.Ship, api.Errno) {
 	if e := Check(s); e != api.OK {
 		return api.Ship{}, e
 	}
-	out := duplicate(s)
+	out := common.CopyShip(s)
 	out.Items = append(out.Items, l)
 	if e := Check(out); e != api.OK {
 		return api.Ship{}, e
@@ -34,7 +34,7 @@ func Without(s api.Ship, name string) (api.Ship, api.Errno) {
 	if e != api.OK {
 		return api.Ship{}, e
 	}
-	out := duplicate(s)
+	out := common.CopyShip(s)
 	out.Items = slices.Delete(out.Items, i, i+1)
 	return out, api.OK
 }
@@ -48,7 +48,7 @@ func Move(s api.Ship, name string, x, z int) (api.Ship, api.Errno) {
 	if !isCentre(x, z) {
 		return api.Ship{}, api.ErrRange
 	}
-	out := duplicate(s)
+	out := common.CopyShip(s)
 	out.Items[i].X, out.Items[i].Z = x, z
 	return out, api.OK
 }
@@ -80,14 +80,3 @@ func total(s api.Ship) api.Centre {
 }
 
 func allLoads(s api.Ship) []api.Load { return append([]api.Load{s.Light}, s.Items...) }
-
-// duplicate returns the same ship in new memory.
-func duplicate(s api.Ship) api.Ship {
-	s.Stations = slices.Clone(s.Stations)
-	for i, t := range s.Stations {
-		s.Stations[i].Levels = slices.Clone(t.Levels)
-		s.Stations[i].Halves = slices.Clone(t.Halves)
-	}
-	s.Items = slices.Clone(s.Items)
-	return s
-}
