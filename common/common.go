@@ -41,6 +41,15 @@ func Ratio(a, b int) api.Rat {
 	return q
 }
 
+// Product returns the product of all factors, which may be greater than an int.
+func Product(factors ...int) api.Rat {
+	p := exact.Of(1)
+	for _, n := range factors {
+		p = exact.Mul(p, exact.Of(n))
+	}
+	return exact.Whole(p)
+}
+
 // Normal returns the same number, normalized and in new memory.
 func Normal(x api.Rat) api.Rat { return exact.AddRat(x, api.Rat{}) }
 

@@ -49,7 +49,9 @@ func TestNumbers(t *testing.T) {
 		got    api.Rat
 		wanted string
 	}{
-		{half, "-1/2"}, {common.Whole(-7), "-7"}, {common.Times(half, 3), "-3/2"}, {common.Over(half, common.Whole(-2)), "1/4"},
+		{half, "-1/2"}, {common.Whole(-7), "-7"}, {common.Times(half, 3), "-3/2"},
+		{common.Product(), "1"}, {common.Product(-6, 7), "-42"}, {common.Product(5, 0, 9), "0"},
+		{common.Product(1000000000, 1000000000, -3000000000), "-3000000000000000000000000000"}, {common.Over(half, common.Whole(-2)), "1/4"},
 	} {
 		if text := exact.FormatRat(x.got); text != x.wanted {
 			t.Errorf("%s, want %s", text, x.wanted)
@@ -70,6 +72,39 @@ func TestNumbers(t *testing.T) {
 	}
 	if common.Sign(half) != -1 || common.Sign(api.Rat{}) != 0 || common.Sign(common.Whole(5)) != 1 {
 		t.Error("a wrong sign")
+	}
+}
+
+// An item of a list has a name, and an error of its own.
+type item struct {
+	name string
+	e    api.Errno
+}
+
+func TestListError(t *testing.T) {
+	ok := func(name string) item { return item{name: name} }
+	for _, x := range []struct {
+		what   string
+		l      []item
+		wanted api.Errno
+	}{
+		{"nothing", nil, api.OK},
+		{"as many as there may be", []item{ok("a"), ok("b"), ok("A")}, api.OK},
+		{"too many", []item{ok("a"), ok("b"), ok("c"), ok("d")}, api.ErrLarge},
+		{"too many before a name", make([]item, 4), api.ErrLarge},
+		{"a name", []item{ok("a"), ok("1")}, api.ErrName},
+		{"a name before an error", []item{{"", api.ErrTip}}, api.ErrName},
+		{"a name twice", []item{ok("a"), ok("b"), ok("a")}, api.ErrExists},
+		{"a name twice before an error", []item{ok("a"), {"a", api.ErrTip}}, api.ErrExists},
+		{"an error", []item{ok("a"), ok("b"), {"c", api.ErrTip}}, api.ErrTip},
+		{"an error before the next name", []item{ok("a"), {"b", api.ErrTip}, ok("")}, api.ErrTip},
+		{"an error before the same name", []item{{"a", api.ErrTip}, ok("a")}, api.ErrTip},
+		{"the first one of two errors", []item{{"a", api.ErrTip}, {"b", api.ErrSink}}, api.ErrTip},
+	} {
+		e := common.ListError(x.l, 3, func(i item) string { return i.name }, func(i item) api.Errno { return i.e })
+		if e != x.wanted {
+			t.Errorf("%s: %d, want %d", x.what, e, x.wanted)
+		}
 	}
 }
 

@@ -42,7 +42,7 @@ func Experiment(t api.Incline) (api.Stable, api.Errno) {
 	}
 	moment, squares := api.Rat{}, 0
 	for _, x := range t.Shifts {
-		moment = exact.AddRat(moment, product(x.Mass, x.Distance, x.Deflection))
+		moment = exact.AddRat(moment, common.Product(x.Mass, x.Distance, x.Deflection))
 		squares += x.Deflection * x.Deflection
 	}
 	if squares == 0 {

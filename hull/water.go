@@ -202,8 +202,8 @@ func (m *moments) add(t api.Station, wet immersed) {
 }
 
 func (p *plane) add(t api.Station, half int) {
-	p.area = exact.AddRat(p.area, product(2, half, t.Width))
-	p.along = exact.AddRat(p.along, product(2, half, t.Width, t.X))
-	p.squares = exact.AddRat(p.squares, product(2, half, t.Width, t.X, t.X))
-	p.cross = exact.AddRat(p.cross, common.Over(product(2, half, half, half, t.Width), common.Whole(3)))
+	p.area = exact.AddRat(p.area, common.Product(2, half, t.Width))
+	p.along = exact.AddRat(p.along, common.Product(2, half, t.Width, t.X))
+	p.squares = exact.AddRat(p.squares, common.Product(2, half, t.Width, t.X, t.X))
+	p.cross = exact.AddRat(p.cross, common.Over(common.Product(2, half, half, half, t.Width), common.Whole(3)))
 }
